@@ -1,0 +1,1 @@
+"""Binary numbers and their texts, with fast ways judged for all numbers."""

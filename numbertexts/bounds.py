@@ -1,0 +1,14 @@
+"""The limits that the other modules keep to."""
+
+MAX_BITS = 128
+MAX_EXP = 1200
+MAX_DIGITS = 1300
+MAX_POWER = 2500
+MAX_WORD = 128
+MAX_ROW = 400
+MAX_ROWBITS = 256
+MAX_ROWS = 40
+MAX_STEP = 27
+MAX_TRIP = 40
+MAX_EDITS = 60
+BATCH = 20
