@@ -67,7 +67,10 @@ def code_of(form, m, e):
     exponent = max(low, e + m.bit_length() - p)
     if exponent > high:
         return None
-    own = m << (e - exponent) if e > exponent else m >> (exponent - e)
-    if e < exponent and own << (exponent - e) != m:
-        return None
+    if e >= exponent:
+        own = m << (e - exponent)
+    else:
+        own = m >> (exponent - e)
+        if (own << (exponent - e)) != m:
+            return None
     return ((exponent - low) << (p - 1)) + own

@@ -15,6 +15,14 @@ FUNCTIONS = {
         "is_format": "value", "format_error": "value", "told_format": "name", "count_of": "form",
         "value_of": "form code", "code_of": "form m e",
     },
+    "stairs": {
+        "stair_at": "stair x", "sum_of_stair": "stair low high", "first_above": "lower upper low high",
+    },
+    "decimals": {"is_decimal": "value", "plain_decimal": "decimal", "compare": "one other"},
+    "reading": {
+        "is_way": "value", "position": "form num den", "read": "form way decimal", "around": "form decimal",
+    },
+    "ranges": {"range_of": "form way code", "is_read_as": "form way code decimal"},
 }
 
 
