@@ -4,6 +4,7 @@ from math import gcd
 
 from numbertexts.decimals import fraction_of
 from numbertexts.formats import count_of
+from numbertexts.powers import log_of
 
 WAYS = ("even", "away", "zero", "out", "odd")
 
@@ -11,16 +12,6 @@ WAYS = ("even", "away", "zero", "out", "odd")
 def is_way(value):
     """Return whether the value is a way."""
     return value in WAYS
-
-
-def log_of(num, den):
-    """Return the greatest k for which 2 ** k is at most num / den, which is above 0."""
-    k = num.bit_length() - den.bit_length()
-    if k >= 0:
-        fits = (den << k) <= num
-    else:
-        fits = den <= (num << -k)
-    return k if fits else k - 1
 
 
 def exponent_at(form, num, den):

@@ -2,15 +2,29 @@
 
 import unittest
 
+from numbertexts.deciding import deciding_digits, least_undecided, undecided_pair
 from numbertexts.decimals import compare, is_decimal, plain_decimal
+from numbertexts.errors import BadText
 from numbertexts.formats import code_of, count_of, format_error, is_format, told_format, value_of
+from numbertexts.hits import (
+    count_hits, each_hit, first_hit, greatest_rest, hit_at, least_rest, members)
 from numbertexts.lines import rest_at, sum_of, sum_rows, sum_rows_hold, value_at
+from numbertexts.parted import count_parted, first_parted, parted_at
+from numbertexts.printing import exact, fixed, rounded, shortest
+from numbertexts.printrows import (
+    count_wrong_print, cut_print_row, fast_shortest, fewest_print_bits, first_wrong_print, place_of, print_row_error)
 from numbertexts.ranges import is_read_as, range_of
 from numbertexts.reading import around, is_way, position, read
+from numbertexts.rows import cut_row, guarded_read, is_sound, plain_read, row_error
 from numbertexts.stairs import first_above, stair_at, sum_of_stair
+from numbertexts.texts import hex_text, number_text, parse_text, read_text
+from numbertexts.trips import (
+    count_dropped, count_lost, digits_enough, digits_kept, dropped_at, is_enough, is_kept, least_dropped, least_lost,
+    lost_at)
 
 WAYS = ('even', 'away', 'zero', 'out', 'odd')
 T = (3, -2, 2)
+B16 = (11, -24, 5)
 
 
 class Examples(unittest.TestCase):
@@ -28,6 +42,27 @@ class Examples(unittest.TestCase):
         self.check(
             [sum_rows((3, 1, 4), 0, 8), sum_rows((3, 1, 4), 5, 5), sum_rows_hold((3, 1, 4), 0, 8, ((8, 3, 1, 4, 20),))],
             "[((8, 3, 1, 4, 20), (6, 4, 1, 3, 20), (2, 3, 1, 1, 5)), ((0, 3, 16, 4, 0),), False]")
+
+    def test_point_6(self):
+        self.check(
+            [first_parted((1, 0, 1), (2, 0, 1), 0, 10), count_parted((1, 5, 2), (1, 0, 1), 0, 10),
+             parted_at((1, 5, 2), (1, 0, 1), 0, 10, 4), first_parted((2, 1, 4), (1, 0, 2), 0, 10 ** 30)],
+            "[1, 8, 6, None]")
+
+    def test_point_7(self):
+        self.check(
+            [count_hits((7, 3, 10), (0, 1), 0, 10), first_hit((7, 3, 10), (0, 1), 0, 10),
+             hit_at((7, 3, 10), (0, 1), 0, 10, 1), list(each_hit((7, 3, 10), (9, 0), 0, 10))],
+            "[2, 1, 4, [1, 8]]")
+        self.check(
+            [least_rest((7, 3, 10), 2, 8), greatest_rest((7, 3, 10), 2, 8), least_rest((7, 3, 10), 8, 8)],
+            "[(1, 4), (8, 5), None]")
+
+    def test_point_8(self):
+        self.check(
+            [members((7, 3, 10), 0, 30), members((7, 3, 10), 0, 30, parity=0), members((2, 1, 4), 0, 30),
+             members((2, 0, 4), 0, 30, parity=1)],
+            "[(1, 10, 3), (11, 20, 1), None, (2, 4, 7)]")
 
     def test_point_9(self):
         S = ((1, 2, 8), (1, 5, 8))
@@ -77,6 +112,107 @@ class Examples(unittest.TestCase):
         self.check(
             [is_read_as(T, 'even', 9, (225, -2)), is_read_as(T, 'away', 9, (225, -2)), is_read_as(T, 'even', 24, (30, 0))],
             "[False, True, True]")
+
+    def test_point_14_shortest(self):
+        self.check(
+            [[shortest(T, 'even', code) for code in (0, 1, 7, 8, 9, 23)],
+             [shortest(T, way, 23) for way in ('away', 'zero', 'out', 'odd')]],
+            "[[(0, 0), (2, -1), (18, -1), (2, 0), (25, -1), (28, 0)], [(28, 0), (3, 1), (28, 0), (3, 1)]]")
+        B64 = told_format('binary64')
+        code = code_of(B64, 5960464477539062, 24)
+        self.check([shortest(B64, 'even', code), shortest(B64, 'away', code)], "[(1, 23), (9999999999999999, 7)]")
+
+    def test_point_14_other_decimals(self):
+        self.check(
+            [exact(T, 0), exact(T, 7), exact(T, 23), exact(B16, 1)],
+            "[(0, 0), (175, -2), (28, 0), (59604644775390625, -24)]")
+        self.check(
+            [rounded(T, 7, 1), rounded(T, 7, 2), rounded(T, 7, 9), rounded(T, 9, 1), rounded(B16, 1, 3), rounded(T, 17, 1)],
+            "[(2, 0), (18, -1), (175, -2), (2, 0), (596, -10), (1, 1)]")
+        self.check(
+            [fixed(T, 9, 0), fixed(T, 9, -3), fixed(T, 9, 1), fixed(T, 23, 1), fixed(T, 11, 0)], "[2, 2500, 0, 3, 4]")
+
+    def test_point_15(self):
+        self.check(
+            [row_error((-1, 12, -7, 1)), row_error((0, 0, 0, 4)), row_error([1, 5, 1, 0]), is_sound((-1, 12, -7, 1)),
+             is_sound((-1, 13, -7, 1)), is_sound((1, 5, 1, 0))],
+            "[None, 'factor', 'row', True, False, True]")
+        self.check(
+            [cut_row(-1, 4), cut_row(-1, 5), cut_row(1, 2), cut_row(1, 3), cut_row(0, 1)],
+            "[(-1, 12, -7, 1), (-1, 25, -8, 1), (1, 2, 2, 1), (1, 5, 1, 0), (0, 1, 0, 0)]")
+        R = (-1, 25, -8, 1)
+        self.check([plain_read(T, "even", R, number) for number in (4, 13, 14)], "[2, 5, 5]")
+        self.check(
+            [guarded_read(T, "even", R, 13), guarded_read(T, "even", R, 14), read(T, "even", (14, -1)),
+             plain_read(T, "out", R, 5), plain_read(T, "odd", R, 5)],
+            "[5, None, 6, 2, 1]")
+
+    def test_point_19(self):
+        self.check(
+            [place_of(5), place_of(0), place_of(-1), print_row_error((5, 0, 0, 9)), print_row_error((5, 52428, -15, 1))],
+            "[1, 0, -1, 'factor', None]")
+        self.check(
+            [cut_print_row(5, 16), cut_print_row(5, 15), cut_print_row(0, 3)],
+            "[(5, 52428, -15, 1), (5, 26214, -14, 1), (0, 4, -3, 0)]")
+
+    def test_point_20(self):
+        self.check(
+            [fast_shortest(B16, 'even', cut_print_row(5, 16), 31743), fast_shortest(B16, 'even', cut_print_row(5, 16), 30720),
+             fast_shortest(B16, 'zero', cut_print_row(5, 16), 31743)],
+            "[(655, 2), None, None]")
+        row = cut_print_row(5, 15)
+        self.check(
+            [first_wrong_print(B16, row), count_wrong_print(B16, row), first_wrong_print(B16, cut_print_row(5, 16))],
+            "[31063, 137, None]")
+        self.check([fewest_print_bits((11, -24, 5), 5), fewest_print_bits((3, -2, 2), 0)], "[16, 1]")
+
+    def test_point_22(self):
+        self.check(
+            [is_enough(T, 1), least_lost(T, 1), count_lost(T, 1), is_enough(T, 2), least_lost((2, -4, -1), 1)],
+            "[False, 5, 10, True, 4]")
+        self.check(
+            [lost_at(T, 1, 3), lost_at(T, 1, 9), digits_enough(T), digits_enough((11, -24, 5)),
+             digits_enough((53, -1074, 971))],
+            "[9, 23, 2, 5, 17]")
+
+    def test_point_23(self):
+        self.check(
+            [is_kept(T, 1), least_dropped(T, 1), count_dropped(T, 1), least_dropped(T, 2), is_kept((4, -2, 4), 1)],
+            "[False, (9, 0), 1, (11, -1), True]")
+        self.check(
+            [dropped_at(T, 1, 0), digits_kept(T), digits_kept((11, -24, 5)), digits_kept((53, -1074, 971))],
+            "[(9, 0), 0, 3, 15]")
+
+    def test_point_25(self):
+        found = [deciding_digits(T, way) for way in ("even", "zero", "odd")]
+        self.check(
+            found + [deciding_digits((53, -1074, 971), "even"), least_undecided(T, "even", 2), least_undecided(T, "odd", 1),
+                     least_undecided(T, "odd", 2)],
+            "[4, 3, 2, 768, (125, -3), (15, -1), None]")
+        one, other = undecided_pair(T, "even", 3)
+        self.check([read(T, "even", one) == read(T, "even", other), undecided_pair(T, "even", 4)], "[False, None]")
+
+    def test_point_27_reading(self):
+        self.check(
+            [parse_text("-1.50e2"), parse_text("0x1.8p-1"), parse_text("+inf"), parse_text(".5")],
+            "[(1, 10, 150, 0), (0, 2, 24, -5), (0, 'inf'), (0, 10, 5, -1)]")
+        with self.assertRaises(BadText) as caught:
+            parse_text("1e1201")
+        self.check(caught.exception, "BadText(5)")
+        self.check(
+            [read_text(T, "even", "2.25"), read_text(T, "away", "-0x9p-2"), read_text(T, "even", "1e9"),
+             read_text(T, "zero", "1e9"), read_text(T, "zero", "inf")],
+            "[(0, 8), (1, 9), (0, 24), (0, 23), (0, 24)]")
+
+    def test_point_27_writing(self):
+        self.check(
+            [number_text(T, "even", 1, 9), number_text(T, "even", 0, 1), number_text(T, "even", 0, 1, style="power"),
+             number_text(T, "even", 0, 23, style="power"), number_text(T, "even", 1, 24),
+             number_text((1, 60, 60), "even", 0, 1)],
+            "['-2.5', '0.2', '2e-1', '2.8e1', '-inf', '1e18']")
+        self.check(
+            [hex_text(T, 1, 9), hex_text(T, 0, 0), hex_text(T, 0, 20), hex_text(T, 0, 24)],
+            "['-0x5p-1', '0x0p0', '0x1p4', 'inf']")
 
 
 if __name__ == "__main__":

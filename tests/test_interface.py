@@ -23,13 +23,45 @@ FUNCTIONS = {
         "is_way": "value", "position": "form num den", "read": "form way decimal", "around": "form decimal",
     },
     "ranges": {"range_of": "form way code", "is_read_as": "form way code decimal"},
+    "parted": {
+        "first_parted": "one other low high", "count_parted": "one other low high",
+        "parted_at": "one other low high index",
+    },
+    "hits": {
+        "count_hits": "line window low high", "first_hit": "line window low high",
+        "hit_at": "line window low high index", "each_hit": "line window low high", "least_rest": "line low high",
+        "greatest_rest": "line low high", "members": "line low high * parity=None",
+    },
+    "rows": {
+        "row_error": "value", "is_sound": "row", "cut_row": "power bits", "plain_read": "form way row number",
+        "guarded_read": "form way row number",
+    },
+    "printrows": {
+        "place_of": "exponent", "print_row_error": "value", "cut_print_row": "exponent bits",
+        "fast_shortest": "form way row code", "first_wrong_print": "form row", "count_wrong_print": "form row",
+        "fewest_print_bits": "form exponent",
+    },
+    "printing": {
+        "shortest": "form way code", "exact": "form code", "rounded": "form code digits", "fixed": "form code place",
+    },
+    "trips": {
+        "is_enough": "form digits", "least_lost": "form digits", "count_lost": "form digits",
+        "lost_at": "form digits index", "digits_enough": "form", "is_kept": "form digits", "least_dropped": "form digits",
+        "count_dropped": "form digits", "dropped_at": "form digits index", "digits_kept": "form",
+    },
+    "deciding": {
+        "deciding_digits": "form way", "least_undecided": "form way digits", "undecided_pair": "form way digits",
+    },
+    "texts": {
+        "parse_text": "value", "read_text": "form way value", "number_text": "form way sign code * style='auto'",
+        "hex_text": "form sign code",
+    },
 }
 
 
 def functions_in(name):
     tree = ast.parse((PACKAGE / f"{name}.py").read_text())
-    return {node.name: " ".join(arg.arg for arg in node.args.args)
-            for node in tree.body if isinstance(node, ast.FunctionDef)}
+    return {node.name: ast.unparse(node.args).replace(",", "") for node in tree.body if isinstance(node, ast.FunctionDef)}
 
 
 class Interface(unittest.TestCase):

@@ -7,7 +7,7 @@ from numbertexts.decimals import compare
 from numbertexts.formats import code_of, count_of, told_format, value_of
 from numbertexts.reading import around, is_way, position, read
 from slow_ways import (
-    HALF, SMALL_FORMATS, WAYS, any_values, code_by_words, decimal_of, numbers_of, power, real_at)
+    HALF, SMALL_FORMATS, WAYS, any_values, code_by_words, decimal_of, numbers_of, position_by_words, power, real_at)
 
 B64 = told_format("binary64")
 GREAT_FORMATS = (B64, told_format("binary16"), told_format("bfloat16"), (128, -1200, 1200), (1, -1200, 1200))
@@ -25,17 +25,6 @@ def some_codes(form):
 def value_at_code(form, code):
     m, e = value_of(form, code)
     return m * power(2, e)
-
-
-def position_by_words(form, x):
-    p, low, high = form
-    if x < power(2, p + low):
-        e = low
-    elif x >= power(2, p + high):
-        e = high
-    else:
-        (e,) = [e for e in range(low, high + 1) if power(2, p - 1) <= x / power(2, e) < power(2, p)]
-    return (e - low) * 2 ** (p - 1) + x / power(2, e)
 
 
 class Ways(unittest.TestCase):
