@@ -2,9 +2,7 @@
 
 from math import gcd
 
-from numbertexts.apart import apart_at, count_apart
-from numbertexts.errors import NoIndex
-from numbertexts.kinds import is_between
+from numbertexts.apart import count_apart, index_in
 from numbertexts.lines import rest_at
 
 
@@ -20,7 +18,7 @@ def pair_for(line, window):
 def count_hits(line, window, low, high):
     """Return at how many numbers of the range the line hits the window."""
     lower, upper = pair_for(line, window)
-    return count_apart(lower, upper, low, high)
+    return count_apart((lower,), (upper,), low, high)
 
 
 def next_level(a, c, least, greatest, n):
@@ -67,9 +65,7 @@ def first_hit(line, window, low, high):
 def hit_at(line, window, low, high, index):
     """Return the number with this index among those at which the line hits the window."""
     lower, upper = pair_for(line, window)
-    if not is_between(index, 0, count_apart(lower, upper, low, high) - 1):
-        raise NoIndex(index)
-    return apart_at(lower, upper, low, high, index)
+    return index_in([((lower,), (upper,), low, high)], index)
 
 
 def each_hit(line, window, low, high):

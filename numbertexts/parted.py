@@ -1,11 +1,9 @@
 """Where two lines have values that are not equal."""
 
-from numbertexts.apart import apart_at, count_apart
-from numbertexts.errors import NoIndex
-from numbertexts.kinds import is_whole
+from numbertexts.apart import count_in, first_apart, index_in
 
-NOUGHT = (0, 0, 1)
-ONE = (0, 1, 1)
+NOUGHT = ((0, 0, 1),)
+ONE = ((0, 1, 1),)
 
 
 def difference(one, other):
@@ -23,11 +21,11 @@ def reached_at(rise, start, goal):
 def pairs_of(one, other):
     """Return pairs (lower, upper) for where one is behind by 1 or more, by less, ahead by less than 1, by more."""
     # Real values that are a whole 1 apart never have one value, so each number of the range counts there.
-    return [(NOUGHT, ONE), (one, other), (other, one), (NOUGHT, ONE)]
+    return [(NOUGHT, ONE), ((one,), (other,)), ((other,), (one,)), (NOUGHT, ONE)]
 
 
 def pieces_of(one, other, low, high):
-    """Return the range in pieces (lower, upper, low, high): the lines part where the upper line is above."""
+    """Return the range in pieces: the lines part where the stairs of a piece differ."""
     rise, start, unit = difference(one, other)
     if rise < 0:
         return pieces_of(other, one, low, high)
@@ -45,23 +43,17 @@ def pieces_of(one, other, low, high):
 def first_parted(one, other, low, high):
     """Return the least number of the range at which the lines part, or None."""
     for lower, upper, start, stop in pieces_of(one, other, low, high):
-        if count_apart(lower, upper, start, stop) > 0:
-            return apart_at(lower, upper, start, stop, 0)
+        found = first_apart(lower, upper, start, stop)
+        if found is not None:
+            return found
     return None
 
 
 def count_parted(one, other, low, high):
     """Return at how many numbers of the range the lines part."""
-    return sum([count_apart(*piece) for piece in pieces_of(one, other, low, high)])
+    return count_in(pieces_of(one, other, low, high))
 
 
 def parted_at(one, other, low, high, index):
     """Return the number with this index among those at which the lines part."""
-    if is_whole(index) and index >= 0:
-        left = index
-        for lower, upper, start, stop in pieces_of(one, other, low, high):
-            many = count_apart(lower, upper, start, stop)
-            if left < many:
-                return apart_at(lower, upper, start, stop, left)
-            left = left - many
-    raise NoIndex(index)
+    return index_in(pieces_of(one, other, low, high), index)

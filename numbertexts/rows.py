@@ -44,6 +44,23 @@ def read_above(form, way, num, den):
     return min(rounded_above(way, n, d), greatest_read(form, way))
 
 
+def rounded_below(way, n, d):
+    """Return the integer to which the real numbers just below n / d, which is above 0, are rounded by the way."""
+    if way == "zero":
+        return (n - 1) // d
+    if way == "out":
+        return (n - 1) // d + 1
+    if way == "odd":
+        return (n - 1) // (2 * d) * 2 + 1
+    return (2 * n + d - 1) // (2 * d)
+
+
+def read_below(form, way, num, den):
+    """Return the code as which the real numbers just below num / den, which is above 0, are read by the way."""
+    n, d = rough_position(form, num, den)
+    return min(rounded_below(way, n, d), greatest_read(form, way))
+
+
 def plain_read(form, way, row, number):
     """Return the code that the plain run of the row tells for the number."""
     if number == 0:

@@ -4,15 +4,17 @@ import unittest
 
 from numbertexts.deciding import deciding_digits, least_undecided, undecided_pair
 from numbertexts.decimals import compare, is_decimal, plain_decimal
-from numbertexts.errors import BadText
+from numbertexts.errors import BadText, Coarse, NoCode, NoIndex
 from numbertexts.formats import code_of, count_of, format_error, is_format, told_format, value_of
 from numbertexts.hits import (
     count_hits, each_hit, first_hit, greatest_rest, hit_at, least_rest, members)
 from numbertexts.lines import rest_at, sum_of, sum_rows, sum_rows_hold, value_at
 from numbertexts.parted import count_parted, first_parted, parted_at
+from numbertexts.paths import fewest_bits, needed_guards, path_error, path_fault, read_by
 from numbertexts.printing import exact, fixed, rounded, shortest
 from numbertexts.printrows import (
     count_wrong_print, cut_print_row, fast_shortest, fewest_print_bits, first_wrong_print, place_of, print_row_error)
+from numbertexts.promises import Pledge
 from numbertexts.ranges import is_read_as, range_of
 from numbertexts.reading import around, is_way, position, read
 from numbertexts.rows import cut_row, guarded_read, is_sound, plain_read, row_error
@@ -21,6 +23,9 @@ from numbertexts.texts import hex_text, number_text, parse_text, read_text
 from numbertexts.trips import (
     count_dropped, count_lost, digits_enough, digits_kept, dropped_at, is_enough, is_kept, least_dropped, least_lost,
     lost_at)
+from numbertexts.values import Number, Reader
+from numbertexts.wrongs import (
+    count_slow, count_wrong, each_wrong, first_slow, first_wrong, slow_at, wrong_at)
 
 WAYS = ('even', 'away', 'zero', 'out', 'odd')
 T = (3, -2, 2)
@@ -31,6 +36,11 @@ class Examples(unittest.TestCase):
     def check(self, found, told):
         # The document gives the repr, by which True differs from 1.
         self.assertEqual(repr(found), told)
+
+    def check_raised(self, error, told, action):
+        with self.assertRaises(error) as caught:
+            action()
+        self.check(caught.exception, told)
 
     def test_point_4(self):
         self.check(
@@ -147,6 +157,46 @@ class Examples(unittest.TestCase):
              plain_read(T, "out", R, 5), plain_read(T, "odd", R, 5)],
             "[5, None, 6, 2, 1]")
 
+    def test_point_16(self):
+        self.check(
+            [first_wrong(T, "even", 4, (-1, 12, -7, 1)), list(each_wrong(T, "even", 4, (-1, 25, -8, 1))),
+             first_wrong(T, "even", 2, (1, 2, 2, 1)), first_wrong(T, "even", 2, (1, 5, 1, 0))],
+            "[9, [14], 1, None]")
+        self.check(
+            [count_wrong(T, "even", 4, (-1, 25, -8, 1)), wrong_at(T, "even", 4, (-1, 25, -8, 1), 0),
+             count_wrong(T, "even", 4, (1, 5, 1, 0))],
+            "[1, 14, 0]")
+        self.check_raised(Coarse, "Coarse(-1)", lambda: count_wrong(T, "even", 4, (-1, 12, -7, 1)))
+
+    def test_point_16_slow_numbers(self):
+        self.check(
+            [first_slow(T, "even", 4, (-1, 25, -8, 1)), count_slow(T, "even", 4, (-1, 25, -8, 1)),
+             first_slow(T, "even", 3, (-1, 25, -8, 1))],
+            "[14, 1, None]")
+        self.check_raised(NoIndex, "NoIndex(True)", lambda: slow_at(T, "even", 4, (-1, 25, -8, 1), True))
+
+    def test_point_17(self):
+        self.check(
+            [fewest_bits(T, "even", 4, -1), fewest_bits(T, "even", 4, -1, guarded=True), fewest_bits(T, "even", 6, -1),
+             fewest_bits(T, "zero", 4, -1), fewest_bits(T, "even", 2, 1)],
+            "[6, 6, None, None, 3]")
+
+    def test_point_18(self):
+        ROWS = ((-1, 25, -8, 1), (0, 1, 0, 0))
+        self.check(
+            [path_error((4, ROWS, (-1,))), path_error((0, ROWS, ())), path_error((4, ROWS[::-1], ())),
+             path_error((4, ROWS, (1,)))],
+            "[None, (None, 'word'), (1, 'order'), (0, 'guard')]")
+        P = (4, ((-1, 25, -8, 1), (0, 1, 0, 0)), (-1,))
+        self.check(
+            [read_by(T, "even", P, (13, -1)), read_by(T, "even", P, (14, -1)), read_by(T, "even", P, (3, 0)),
+             read_by(T, "even", P, (3, 1)), read_by(T, "even", P, (16, -1))],
+            "[5, None, 10, None, None]")
+        self.check(
+            [path_fault(T, "even", (4, ROWS, ())), path_fault(T, "even", (4, ROWS, (-1,))),
+             needed_guards(T, "even", 4, ROWS)],
+            "[(-1, 14), None, ((-1, 14),)]")
+
     def test_point_19(self):
         self.check(
             [place_of(5), place_of(0), place_of(-1), print_row_error((5, 0, 0, 9)), print_row_error((5, 52428, -15, 1))],
@@ -196,9 +246,7 @@ class Examples(unittest.TestCase):
         self.check(
             [parse_text("-1.50e2"), parse_text("0x1.8p-1"), parse_text("+inf"), parse_text(".5")],
             "[(1, 10, 150, 0), (0, 2, 24, -5), (0, 'inf'), (0, 10, 5, -1)]")
-        with self.assertRaises(BadText) as caught:
-            parse_text("1e1201")
-        self.check(caught.exception, "BadText(5)")
+        self.check_raised(BadText, "BadText(5)", lambda: parse_text("1e1201"))
         self.check(
             [read_text(T, "even", "2.25"), read_text(T, "away", "-0x9p-2"), read_text(T, "even", "1e9"),
              read_text(T, "zero", "1e9"), read_text(T, "zero", "inf")],
@@ -213,6 +261,29 @@ class Examples(unittest.TestCase):
         self.check(
             [hex_text(T, 1, 9), hex_text(T, 0, 0), hex_text(T, 0, 20), hex_text(T, 0, 24)],
             "['-0x5p-1', '0x0p0', '0x1p4', 'inf']")
+
+    def test_point_28(self):
+        one = Number(T, 9)
+        self.check([one.form, one.code], "[(3, -2, 2), 9]")
+        self.check(
+            [str(one), len(one), (one + -2).code, one - Number(T, 20), Number(T, 9) == Number(T, 9)],
+            "['5*2**-1', 2, 7, -11, True]")
+        self.check([(25, -1) in one, (275, -2) in one, (226, -2) in one, 2 in one], "[True, False, True, False]")
+        self.check_raised(NoCode, "NoCode(24)", lambda: Number((3, -2, 2), 20) + 4)
+        self.check(
+            [Number(T, 9).moved(B16).code, Number(B16, 1).moved(T), Number(T, 0).moved(B16).code,
+             Number(T, 0).is_less(Number(B16, 1))],
+            "[16640, None, 0, True]")
+
+    def test_point_29(self):
+        reader = Reader(T, 'even', (5, ((-1, 51, -9, 1), (0, 1, 0, 0)), ()))
+        self.check(
+            [reader((25, -1)), reader((5, 0)), reader((225, -2)), reader.fast, reader.slow, reader.last],
+            "[9, 13, 8, 2, 1, ((225, -2), 8)]")
+
+    def test_point_32_pledges(self):
+        made = Pledge(8)
+        self.check([made.most, made.spare(3), made.spare(255)], "[8, 6, 0]")
 
 
 if __name__ == "__main__":

@@ -36,6 +36,15 @@ FUNCTIONS = {
         "row_error": "value", "is_sound": "row", "cut_row": "power bits", "plain_read": "form way row number",
         "guarded_read": "form way row number",
     },
+    "wrongs": {
+        "first_wrong": "form way word row", "each_wrong": "form way word row", "count_wrong": "form way word row",
+        "wrong_at": "form way word row index", "first_slow": "form way word row", "count_slow": "form way word row",
+        "slow_at": "form way word row index",
+    },
+    "paths": {
+        "path_error": "value", "read_by": "form way path decimal", "path_fault": "form way path",
+        "needed_guards": "form way word rows", "fewest_bits": "form way word power * guarded=False",
+    },
     "printrows": {
         "place_of": "exponent", "print_row_error": "value", "cut_print_row": "exponent bits",
         "fast_shortest": "form way row code", "first_wrong_print": "form row", "count_wrong_print": "form row",
@@ -58,10 +67,32 @@ FUNCTIONS = {
     },
 }
 
+CLASSES = {
+    "values": {
+        "Number": {
+            "__init__": "self form code", "__add__": "self steps", "__sub__": "self other", "__contains__": "self value",
+            "__len__": "self", "__str__": "self", "__eq__": "self other", "moved": "self form", "is_less": "self other",
+        },
+        "Reader": {"__init__": "self form way path", "__call__": "self decimal"},
+    },
+    "promises": {"Pledge": {"__init__": "self most", "spare": "self number"}},
+}
+
+
+def functions_of(nodes):
+    return {node.name: ast.unparse(node.args).replace(",", "") for node in nodes if isinstance(node, ast.FunctionDef)}
+
+
+def body_of(name):
+    return ast.parse((PACKAGE / f"{name}.py").read_text()).body
+
 
 def functions_in(name):
-    tree = ast.parse((PACKAGE / f"{name}.py").read_text())
-    return {node.name: ast.unparse(node.args).replace(",", "") for node in tree.body if isinstance(node, ast.FunctionDef)}
+    return functions_of(body_of(name))
+
+
+def classes_in(name):
+    return {node.name: functions_of(node.body) for node in body_of(name) if isinstance(node, ast.ClassDef)}
 
 
 class Interface(unittest.TestCase):
@@ -70,6 +101,13 @@ class Interface(unittest.TestCase):
             found = functions_in(name)
             for function, arguments in wanted.items():
                 self.assertEqual(found.get(function), arguments, (name, function))
+
+    def test_classes_with_the_methods_in_their_own_bodies(self):
+        for name, wanted in CLASSES.items():
+            found = classes_in(name)
+            for told, methods in wanted.items():
+                for method, arguments in methods.items():
+                    self.assertEqual(found[told].get(method), arguments, (name, told, method))
 
 
 if __name__ == "__main__":
