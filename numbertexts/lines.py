@@ -37,8 +37,11 @@ def sum_of(line, low, high):
     n, a, b, c = first_head(line, low, high)
     total = 0
     while n > 0:
-        total = total + own_part(n, a, b, c)
-        n, a, b, c = next_head(n, a, b, c)
+        slope, a = divmod(a, c)
+        base, b = divmod(b, c)
+        total = total + slope * (n * (n - 1) // 2) + base * n
+        n, b = divmod(a * n + b, c)
+        a, c = c, a
     return total
 
 

@@ -18,6 +18,12 @@ def shifted(n, shift):
     return n << shift, 1
 
 
+def tens_below(k):
+    """Return the greatest t for which 10 ** t is at most 2 ** k, for k from -2620 to 2620."""
+    # 315653 / 2 ** 20 is so near to the logarithm of 2 that it is right for all of these.
+    return (k * 315653) >> 20
+
+
 def log_of(num, den):
     """Return the greatest k for which 2 ** k is at most num / den, which is above 0."""
     k = num.bit_length() - den.bit_length()

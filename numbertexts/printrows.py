@@ -5,7 +5,7 @@ from numbertexts.cuts import cut_of, four_error
 from numbertexts.decimals import fraction_of, plain_decimal
 from numbertexts.formats import count_of, value_of
 from numbertexts.parted import count_parted, first_parted
-from numbertexts.powers import decade_of, shifted
+from numbertexts.powers import shifted, tens_below
 from numbertexts.reading import read_fraction
 
 LEAST_FAST = 11
@@ -13,8 +13,7 @@ LEAST_FAST = 11
 
 def place_of(exponent):
     """Return the greatest k with 10 ** k <= 2 ** exponent."""
-    num, den = shifted(1, exponent)
-    return decade_of(num, den)
+    return tens_below(exponent)
 
 
 def scale_of(exponent):
@@ -137,12 +136,12 @@ def fewest_print_bits(form, exponent):
     """Return the least number of bits with which the cut print row is right for the format."""
     too_few = 0
     bits = 1
-    while count_wrong_print(form, cut_print_row(exponent, bits)) > 0:
+    while first_wrong_print(form, cut_print_row(exponent, bits)) is not None:
         too_few = bits
         bits = 2 * bits
     while bits - too_few > 1:
         middle = (too_few + bits) // 2
-        if count_wrong_print(form, cut_print_row(exponent, middle)) > 0:
+        if first_wrong_print(form, cut_print_row(exponent, middle)) is not None:
             too_few = middle
         else:
             bits = middle

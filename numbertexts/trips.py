@@ -1,13 +1,12 @@
 """Round trips: codes that are lost with some digits, and decimals that are dropped."""
 
 from numbertexts.bounds import MAX_TRIP
-from numbertexts.decimals import plain_decimal
 from numbertexts.errors import NoIndex
 from numbertexts.gaps import count_missed, missed_at
 from numbertexts.kinds import is_whole
-from numbertexts.powers import decade_of, raised, shifted
-from numbertexts.printing import in_units, rounded
-from numbertexts.reading import read
+from numbertexts.powers import raised, tens_below
+from numbertexts.reading import rounded_by
+from numbertexts.stretches import code_at, fives_to, half_span, is_half, sparse_stretches, tens_in_steps
 
 # A run is a tuple (many, first, last, num, den, mark): so many of the integers from first to last are left out
 # by the multiples of num / den. They are m of codes with the exponent mark, or d of decimals with the q mark.
@@ -18,44 +17,28 @@ def run_of(first, last, num, den, mark):
     return (count_missed(first, last, num, den), first, last, num, den, mark)
 
 
-def code_at(form, m, e):
-    """Return the code of the number m * 2 ** e with the m and e of the format."""
-    p, low, _ = form
-    return ((e - low) << (p - 1)) + m
+def single_run(is_left_out, number, mark):
+    """Return the run of this integer alone."""
+    return (1 if is_left_out else 0, number, number, 1, 1, mark)
 
 
-def is_lost(form, code, digits):
-    """Return whether the code is lost with so many digits."""
-    return read(form, "even", rounded(form, code, digits)) != code
-
-
-def lost_within(first, last, e, digits):
-    """Return the runs of the m from first to last, which have evenly spaced numbers around them, at the exponent."""
-    runs = []
-    while first <= last:
-        num, den = shifted(first, e)
-        t = decade_of(num, den)
-        up, down = shifted(1, -e)
-        num, den = in_units(up, down, -t - 1)
-        # num / den is the next power of ten, measured in steps of the format.
-        stop = -(-num // den)
-        runs.append(run_of(first, min(last, stop - 1), num, den * raised(10, digits), e))
-        first = stop
-    return runs
+def is_half_lost(stretch):
+    """Return whether the power of two, printed with so many digits, is not read as its code."""
+    _, half, _, num, den = stretch
+    least, greatest = half_span(stretch)
+    printed = 4 * num * rounded_by("even", half * den, num)
+    return printed < least or printed > greatest
 
 
 def lost_runs(form, digits):
     """Yield the runs of the m of codes that are lost with so many digits, those of lesser codes first."""
-    p, low, high = form
-    half = 1 << (p - 1)
-    for run in lost_within(1, 2 * half - 1, low, digits):
-        yield run
-    for e in range(low + 1, high + 1):
-        # Below a power of two the numbers lie closer together than above it.
-        if is_lost(form, code_at(form, half, e), digits):
-            yield (1, half, half, 1, 1, e)
-        for run in lost_within(half + 1, 2 * half - 1, e, digits):
-            yield run
+    for stretch in sparse_stretches(form, digits):
+        e, first, last, num, den = stretch
+        if is_half(form, stretch):
+            # The nearest decimal may lie too far below, although one further above is read as the code.
+            yield single_run(is_half_lost(stretch), first, e)
+        else:
+            yield run_of(first, last, num, den, e)
 
 
 def is_enough(form, digits):
@@ -100,52 +83,43 @@ def digits_enough(form):
     return digits
 
 
-def is_dropped(form, decimal, digits):
-    """Return whether the decimal, which has so many digits, is dropped."""
-    code = read(form, "even", decimal)
-    return rounded(form, code, digits) != plain_decimal(decimal)
+def is_ten_dropped(ten, num, den):
+    """Return whether the power of ten, made of so many units of which 2 ** e has num / den, is dropped."""
+    read = num * rounded_by("even", ten * den, num)
+    if read >= ten * den:
+        return rounded_by("even", read, den) != ten
+    # A lesser number than the power of ten is printed with a lesser step.
+    return rounded_by("even", 10 * read, den) != 10 * ten
 
 
-def bounds_in(form, e, q):
-    """Return (first, last): for these d the decimal (d, q) lies among the normal numbers with the exponent."""
+def decade_runs(form, e, digits, q, steps):
+    """Return the runs of the d of decimals (d, q) that lie among the normal numbers with the exponent."""
     p, _, high = form
-    up, down = shifted(1, e)
-    num, den = in_units(up, down, q)
-    first = -(-(num << (p - 1)) // den)
-    if e == high:
-        return first, (num * ((1 << p) - 1)) // den
-    return first, ((num << p) - 1) // den
-
-
-def dropped_within(form, e, digits):
-    """Return the runs of the d of decimals that lie among the normal numbers with the exponent."""
-    p, _, _ = form
-    num, den = shifted(1, e + p - 1)
-    q = decade_of(num, den) + 1 - digits
-    least = raised(10, digits - 1)
-    first, last = bounds_in(form, e, q)
-    runs = []
-    while least <= last:
-        first = max(first, least)
-        last = min(last, 10 * least - 1)
-        # A power of ten that is read as a lesser number is printed with a lesser step.
-        if first == least:
-            runs.append((1 if is_dropped(form, (first, q), digits) else 0, first, first, 1, 1, q))
-            first = first + 1
-        up, down = shifted(1, e)
-        num, den = in_units(up, down, q)
-        runs.append(run_of(first, last, num, den, q))
-        q = q + 1
-        first, last = bounds_in(form, e, q)
-    return runs
+    den, num = steps
+    ten = raised(10, digits - 1)
+    first = max(ten, -((-num << (p - 1)) // den))
+    last = (num * ((1 << p) - 1)) // den if e == high else ((num << p) - 1) // den
+    last = min(last, 10 * ten - 1)
+    if first > last:
+        return []
+    if first > ten:
+        return [run_of(first, last, num, den, q)]
+    return [single_run(is_ten_dropped(ten, num, den), ten, q), run_of(ten + 1, last, num, den, q)]
 
 
 def dropped_runs(form, digits):
     """Yield the runs of the d of decimals that are dropped, those of lesser decimals first."""
-    _, low, high = form
+    p, low, high = form
+    fives = fives_to(max(tens_below(high + p), digits - tens_below(low)))
     for e in range(low, high + 1):
-        for run in dropped_within(form, e, digits):
-            yield run
+        first_t = tens_below(e + p - 1)
+        # From here on neither the decimals nor powers of ten below which they lie closer are closer than the numbers.
+        stop_t = tens_below(e) + digits
+        for t in range(first_t, min(tens_below(e + p), stop_t) + 1):
+            if t < stop_t or t > first_t:
+                q = t + 1 - digits
+                for run in decade_runs(form, e, digits, q, tens_in_steps(fives, q, e)):
+                    yield run
 
 
 def is_kept(form, digits):
