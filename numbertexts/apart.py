@@ -9,15 +9,12 @@ from numbertexts.stairs import sum_of_stair
 
 
 def first_forked(lower, upper, n):
-    """Return the first x below n at which the values differ, or None, for lines of which just one rises by 1 or more.
+    """Return the first x below n at which the values differ, or None, for lines of which just the upper one is steep.
 
-    Both begin with the value 0, so the steep one is nowhere below x, and the other one nowhere above it.
+    Both begin with the value 0; one rises by less than 1 and is nowhere above x, the other one is nowhere below it.
     """
     rise, start, unit = lower
     a, b, c = upper
-    if a < c:
-        # The upper one is the one that is nowhere above x, so both have the value x.
-        return None
     found = start // (unit - rise) + 1
     if a > c:
         found = min(found, -((b - c) // (a - c)))
@@ -38,10 +35,10 @@ def first_between(lower, upper, low, high):
             found = 0
             break
         a, b = a - slope * c, b % c
-        if a < 0 or a >= c:
+        if a >= c:
             found = first_forked((rise, start, unit), (a, b, c), n)
             break
-        # Turned lines tell for each value, from 1 on, the first number at which it is had.
+        # Turned lines tell for each value, from 1 on, the first number at which it is had; there may be none.
         n = (a * (n - 1) + b) // c
         turned.append((c, c - b + a - 1, a))
         if rise == 0:

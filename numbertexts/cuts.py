@@ -24,12 +24,18 @@ def four_error(value, word, limit):
     return None
 
 
+def cut_at(num, den, s):
+    """Return (g, h): the greatest g with g * 2 ** s at most num / den, h is 0 if it is equal to that, otherwise 1."""
+    up, down = shifted(1, s)
+    g, rest = divmod(num * down, den * up)
+    return g, 0 if rest == 0 else 1
+
+
 def cut_of(num, den, bits):
     """Return (g, s, h): num / den cut to so many bits, h is 0 if it is equal to that, otherwise 1."""
     s = log_of(num, den) - bits + 1
-    up, down = shifted(1, s)
-    g = num * down // (den * up)
-    return g, s, 0 if g * den * up == num * down else 1
+    g, h = cut_at(num, den, s)
+    return g, s, h
 
 
 def spans(g, s, h, num, den):

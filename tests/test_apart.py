@@ -49,6 +49,18 @@ class OnePair(unittest.TestCase):
         self.assertEqual(first_between((GREAT - 1, GREAT - 1, GREAT), (1, 0, 1), 0, 2 * GREAT), GREAT)
         self.assertEqual(first_between((0, 0, 1), (1, 0, GREAT), 0, 2 * GREAT), GREAT)
 
+    def test_lines_on_both_sides_of_a_whole_slope(self):
+        # Both are n, or k of it, until n is GREAT.
+        for k in (1, 5):
+            lower, upper = (k * GREAT - 1, GREAT - 1, GREAT), (k * GREAT + 1, 0, GREAT)
+            self.assertEqual(first_between(lower, upper, 0, 10 * GREAT), GREAT)
+            self.assertIs(first_between(lower, upper, 0, GREAT), None)
+            self.assertEqual(first_between((k * GREAT - 1, GREAT - 3, GREAT), upper, 0, 10 * GREAT), GREAT - 2)
+            self.assertEqual(first_between(lower, (k * GREAT + 1, 2, GREAT), 0, 10 * GREAT), GREAT - 2)
+        # Turned, too: both are n // 7 below GREAT.
+        found = first_between((GREAT - 1, GREAT - 1, 7 * GREAT), (GREAT + 1, 0, 7 * GREAT), 0, 10 * GREAT)
+        self.assertEqual(found, [n for n in range(GREAT, GREAT + 7) if n % 7 in (0, 6)][0])
+
     def test_lines_that_are_equal(self):
         for line in ((3, 1, 7), (0, 5, 2), (-4, 1, 9), (GREAT, 3, 10 ** 200)):
             a, b, c = line

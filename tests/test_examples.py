@@ -2,12 +2,16 @@
 
 import unittest
 
+from numbertexts.consoles import Console
 from numbertexts.deciding import deciding_digits, least_undecided, undecided_pair
 from numbertexts.decimals import compare, is_decimal, plain_decimal
-from numbertexts.errors import BadText, Coarse, NoCode, NoIndex
+from numbertexts.desks import Desk, SureDesk
+from numbertexts.errors import BadText, Coarse, NoCode, NoIndex, Rejected, Wrong
 from numbertexts.formats import code_of, count_of, format_error, is_format, told_format, value_of
+from numbertexts.hard import count_near, count_ties, each_near, hardest, near_at, tie_at
 from numbertexts.hits import (
     count_hits, each_hit, first_hit, greatest_rest, hit_at, least_rest, members)
+from numbertexts.lengths import code_with_length, count_length, length_of, longest_length, up_to
 from numbertexts.lines import rest_at, sum_of, sum_rows, sum_rows_hold, value_at
 from numbertexts.parted import count_parted, first_parted, parted_at
 from numbertexts.paths import fewest_bits, needed_guards, path_error, path_fault, read_by
@@ -19,6 +23,8 @@ from numbertexts.ranges import is_read_as, range_of
 from numbertexts.reading import around, is_way, position, read
 from numbertexts.rows import cut_row, guarded_read, is_sound, plain_read, row_error
 from numbertexts.stairs import first_above, stair_at, sum_of_stair
+from numbertexts.steps import (
+    corrected_row, correction, fewest_step_bits, greatest_step, step_faults, stepped_row)
 from numbertexts.texts import hex_text, number_text, parse_text, read_text
 from numbertexts.trips import (
     count_dropped, count_lost, digits_enough, digits_kept, dropped_at, is_enough, is_kept, least_dropped, least_lost,
@@ -216,6 +222,13 @@ class Examples(unittest.TestCase):
             "[31063, 137, None]")
         self.check([fewest_print_bits((11, -24, 5), 5), fewest_print_bits((3, -2, 2), 0)], "[16, 1]")
 
+    def test_point_21(self):
+        self.check(
+            [stepped_row(3, 8, 4), stepped_row(3, 8, 11), correction(3, 8, 11), corrected_row(3, 8, 11), stepped_row(3, 8, 2)],
+            "[(4, 156, 6, 3), (11, 185, 29, 3), 1, (11, 186, 29, 1), (2, 200, -1, 0)]")
+        self.check([step_faults(T, 'even', 3, 3, 1, -1, 1), step_faults(T, 'even', 3, 3, 8, -1, 1)], "[(-1, 1), ()]")
+        self.check([fewest_step_bits(T, 'even', 3, 3, -1, -1), greatest_step(T, 'even', 3, 8, -1, 1)], "[2, 27]")
+
     def test_point_22(self):
         self.check(
             [is_enough(T, 1), least_lost(T, 1), count_lost(T, 1), is_enough(T, 2), least_lost((2, -4, -1), 1)],
@@ -233,6 +246,15 @@ class Examples(unittest.TestCase):
             [dropped_at(T, 1, 0), digits_kept(T), digits_kept((11, -24, 5)), digits_kept((53, -1074, 971))],
             "[(9, 0), 0, 3, 15]")
 
+    def test_point_24(self):
+        self.check(
+            [length_of(T, 3), length_of(T, 5), length_of(T, 23), longest_length(T), length_of((2, -4, -1), 4)],
+            "[1, 2, 2, 2, 1]")
+        self.check(
+            [count_length(T, 1), count_length(T, 2), count_length(T, 3), up_to(T, 1, 10), up_to(T, 2, 10)],
+            "[13, 10, 0, 6, 10]")
+        self.check([code_with_length(T, 1, 4), code_with_length(T, 2, 0), code_with_length(T, 2, 9)], "[8, 5, 23]")
+
     def test_point_25(self):
         found = [deciding_digits(T, way) for way in ("even", "zero", "odd")]
         self.check(
@@ -241,6 +263,15 @@ class Examples(unittest.TestCase):
             "[4, 3, 2, 768, (125, -3), (15, -1), None]")
         one, other = undecided_pair(T, "even", 3)
         self.check([read(T, "even", one) == read(T, "even", other), undecided_pair(T, "even", 4)], "[False, None]")
+
+    def test_point_26(self):
+        self.check([count_ties(T, 0, 5), tie_at(T, 0, 5, 0), tie_at(T, 0, 5, 7), count_ties(T, -1, 4)], "[8, 9, 30, 0]")
+        self.check(
+            [hardest(T, 0, 5), hardest(T, -1, 4), hardest(T, 0, 3), hardest(T, 2, 3)],
+            "[(17, (1, 4)), (1, (1, 10)), (1, (1, 2)), None]")
+        self.check(
+            [count_near(T, 0, 5, 1, 4), near_at(T, 0, 5, 1, 4, 7), count_near(T, 0, 5, 1, 5), list(each_near(T, -1, 4, 1, 10))],
+            "[8, 31, 0, [1, 4, 6, 9, 11, 14]]")
 
     def test_point_27_reading(self):
         self.check(
@@ -284,6 +315,53 @@ class Examples(unittest.TestCase):
     def test_point_32_pledges(self):
         made = Pledge(8)
         self.check([made.most, made.spare(3), made.spare(255)], "[8, 6, 0]")
+
+    def test_point_30(self):
+        desk = Desk(T, 'even', 3)
+        self.check([desk.path, desk.fault, len(desk), str(desk)], "[(3, (), ()), None, 0, '0 rows, 0 guards, even, 0 edits']")
+        desk = Desk(T, 'even', 3)
+        self.check(
+            [desk.put(-1, 1, -4, 3), desk.fault, desk.put(-1, 3, -5, 1), desk.rows, desk.fault, Desk.MOST_EDITS],
+            "[1, (-1, 4), 2, ((-1, 3, -5, 1),), None, 60]")
+        desk = Desk(T, 'even', 3)
+        self.check(
+            [desk.put(-1, 3, -5, 1), desk.guard(-1), desk.guards, desk.turn('away'), desk.drop(-1), desk.path],
+            "[1, 2, (-1,), 3, 4, (3, (), ())]")
+
+    def test_point_31(self):
+        desk = Desk((3, -2, 2), 'even', 3)
+        self.check_raised(Rejected, "Rejected(1)", lambda: desk.attempt([('put', 0, 1, 0, 0), ('guard', 1)]))
+        desk = Desk((3, -2, 2), 'even', 3)
+        self.check(
+            [desk.put(-1, 3, -5, 1), desk.read('0.5'), desk.read('-1e1'), desk.state(version=0)],
+            "[1, (0, 2, True), (1, 17, False), ('even', (), ())]")
+        desk = Desk((3, -2, 2), 'even', 3)
+        self.check(
+            [desk.put(-1, 1, -4, 3), desk.put(0, 1, 0, 0), desk.guard(-1), list(desk.walk()), desk.edits()[2]],
+            "[1, 2, 3, [(-1, True, 4), (0, False, None)], ('guard', -1)]")
+        one = Desk((3, -2, 2), 'even', 3)
+        other = Desk((3, -2, 2), 'even', 3)
+        self.check(
+            [one.put(0, 1, 0, 0), one == other, other.attempt([('put', 0, 2, -1, 0), ('put', 0, 1, 0, 0)]), one == other],
+            "[1, False, 2, True]")
+
+    def test_point_32_sure_desks(self):
+        desk = SureDesk((3, -2, 2), 'even', 3, 2)
+        self.check([desk.put(-1, 3, -5, 1), desk.spare(desk.rows[0][1])], "[1, 0]")
+        self.check_raised(Wrong, "Wrong(-1, 4)", lambda: desk.put(-1, 1, -4, 3))
+
+    def test_point_33(self):
+        console = Console(Desk((3, -2, 2), "even", 3))
+        lines = ("put -1 3 -5 1", "guard -1", "put 0 1 0 0", "rows", "read 0.5", "read -1e1", "fault")
+        self.check(
+            [console.execute(line) for line in lines],
+            "['ok 1', 'ok 2', 'ok 3', '-1 3 -5 1 guarded, 0 1 0 0', '0.5 fast', '-10 slow', 'none']")
+        console = Console(Desk((3, -2, 2), "even", 3))
+        lines = ("rows", "guard 1", "turn up", "read 1.2.3", "drop  1", "spare 3", "read", 5)
+        self.check(
+            [console.execute(line) for line in lines],
+            "['none', 'error NoRow', 'error BadWay', 'error BadText', 'unknown command', 'unknown command', "
+            "'unknown command', 'unknown command']")
 
 
 if __name__ == "__main__":

@@ -50,6 +50,20 @@ FUNCTIONS = {
         "fast_shortest": "form way row code", "first_wrong_print": "form row", "count_wrong_print": "form row",
         "fewest_print_bits": "form exponent",
     },
+    "steps": {
+        "stepped_row": "step bits power", "correction": "step bits power", "corrected_row": "step bits power",
+        "step_faults": "form way word step bits low high", "greatest_step": "form way word bits low high",
+        "fewest_step_bits": "form way word step low high",
+    },
+    "lengths": {
+        "length_of": "form code", "longest_length": "form", "count_length": "form digits", "up_to": "form digits code",
+        "code_with_length": "form digits index",
+    },
+    "hard": {
+        "count_ties": "form power word", "tie_at": "form power word index", "hardest": "form power word",
+        "count_near": "form power word num den", "near_at": "form power word num den index",
+        "each_near": "form power word num den",
+    },
     "printing": {
         "shortest": "form way code", "exact": "form code", "rounded": "form code digits", "fixed": "form code place",
     },
@@ -76,6 +90,16 @@ CLASSES = {
         "Reader": {"__init__": "self form way path", "__call__": "self decimal"},
     },
     "promises": {"Pledge": {"__init__": "self most", "spare": "self number"}},
+    "desks": {
+        "Desk": {
+            "__init__": "self form way word", "put": "self power g s h", "drop": "self power", "guard": "self power",
+            "unguard": "self power", "turn": "self way", "undo": "self", "attempt": "self edits * watch=None",
+            "read": "self text", "state": "self * version=None", "walk": "self * version=None", "edits": "self",
+            "__len__": "self", "__str__": "self", "__eq__": "self other",
+        },
+        "SureDesk": {"__init__": "self form way word most"},
+    },
+    "consoles": {"Console": {"__init__": "self desk", "execute": "self line"}},
 }
 
 

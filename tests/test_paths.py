@@ -151,6 +151,8 @@ class PathError(unittest.TestCase):
         self.assertEqual(path_error((4, rows, (-1, 0))), (1, "guard"))
         self.assertEqual(path_error((4, rows, (-1, 2, 1))), (2, "guard"))
         self.assertEqual(path_error((4, rows, (-1, 1, 1))), (2, "guard"))
+        self.assertEqual(path_error((4, rows, (2, 1))), (1, "guard"))
+        self.assertEqual(path_error((4, rows, (1, 1))), (1, "guard"))
         self.assertEqual(path_error((4, rows, (-1, True))), (1, "guard"))
         self.assertEqual(path_error((4, (), (0,))), (0, "guard"))
         self.assertIs(path_error((4, rows, (-1, 1, 2))), None)
