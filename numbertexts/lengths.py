@@ -2,7 +2,7 @@
 
 from numbertexts.bounds import MAX_TRIP
 from numbertexts.errors import NoIndex
-from numbertexts.formats import count_of, parts_at
+from numbertexts.formats import parts_at
 from numbertexts.kinds import is_whole
 from numbertexts.printing import shortest
 from numbertexts.stretches import code_at, count_unread, sparse_stretches
